@@ -1,0 +1,1 @@
+"""Pairsayings: what can be said with two names of worlds of any size."""
