@@ -1,6 +1,6 @@
 """Sayings of a tongue, and the names that are free in them."""
 
-from pairsayings.errors import NoSaying
+from pairsayings.errors import NoSaying, NotClosed
 
 NAMES = ("x", "y")
 MOST_TUPLES = 100
@@ -31,6 +31,13 @@ def need_saying(tongue, thing):
     """Raise NoSaying() unless the thing, any object, is a saying of the tongue."""
     if not is_saying(tongue, thing):
         raise NoSaying()
+
+
+def need_closed(tongue, thing):
+    """Raise NoSaying(), then NotClosed(), unless the thing, any object, is a closed saying of the tongue."""
+    need_saying(tongue, thing)
+    if free_places(thing):
+        raise NotClosed()
 
 
 def is_saying(tongue, thing):
@@ -91,3 +98,17 @@ def free_places(saying):
     if saying[0] in BINDERS:
         return [name for name in found if name != saying[1]]
     return found
+
+
+def swapped(saying):
+    """The saying, or what is built like one, with the names x and y exchanged everywhere."""
+    return tuple([swapped_item(one) for one in saying])
+
+
+def swapped_item(item):
+    """What stands at a place of a saying, with the names exchanged; no mark or tie is called x or y."""
+    if isinstance(item, tuple):
+        return swapped(item)
+    if item in NAMES:
+        return "y" if item == "x" else "x"
+    return item

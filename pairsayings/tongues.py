@@ -1,6 +1,7 @@
 """Tongues: the names of the marks and of the ties that sayings may use."""
 
 from pairsayings.errors import NoTongue
+from pairsayings.values import is_sequence
 
 LETTERS = "abcdefghijklmnopqrstuvwxyz"
 LONGEST_WORD = 6
@@ -8,11 +9,6 @@ NO_NAMES = ("x", "y", "true", "not", "and", "or", "each", "some")
 MOST_MARKS = 3
 MOST_TIES = 2
 MOST_FUNCTIONS = 1
-
-
-def is_sequence(thing):
-    """Tell whether the thing, any object, is a list or a tuple."""
-    return isinstance(thing, (list, tuple))
 
 
 def is_word(thing):
@@ -47,6 +43,8 @@ def are_functions(thing, ties):
 class Tongue:
     """The marks and ties of a tongue, and which of the ties are functions."""
 
+    # The fields are properties because a World has properties of the same names.
+
     def __init__(self, marks, ties, functions):
         if not are_names(marks, MOST_MARKS):
             raise NoTongue("marks")
@@ -54,10 +52,25 @@ class Tongue:
             raise NoTongue("ties")
         if not are_functions(functions, ties):
             raise NoTongue("functions")
-        self.marks = tuple(marks)
-        self.ties = tuple(ties)
-        self.functions = tuple(functions)
+        self._marks = tuple(marks)
+        self._ties = tuple(ties)
+        self._functions = tuple(functions)
+
+    @property
+    def marks(self):
+        """The tuple of the names of the marks."""
+        return self._marks
+
+    @property
+    def ties(self):
+        """The tuple of the names of the ties."""
+        return self._ties
+
+    @property
+    def functions(self):
+        """The tuple of the names of the ties of which each thing has just one."""
+        return self._functions
 
     def __eq__(self, other):
-        return (isinstance(other, Tongue) and self.marks == other.marks
-                and self.ties == other.ties and self.functions == other.functions)
+        return (isinstance(other, Tongue) and self._marks == other._marks
+                and self._ties == other._ties and self._functions == other._functions)

@@ -9,6 +9,7 @@ import unittest
 import pairsayings.errors
 from pairsayings.errors import NoName, NoSaying, NoTongue, NoWorld, SayingError
 from pairsayings.tongues import Tongue
+from pairsayings.worlds import World
 from tests.things import odd_objects
 
 BARE = """NoSaying NotClosed NoThing NoText NoThings NoWeights NoChance NoPart NoFacts NoNumber HasFunctions
@@ -38,6 +39,7 @@ class TestClasses(unittest.TestCase):
 
     def test_no_other_class_of_the_interface_derives_from_another(self):
         self.assertEqual(Tongue.__bases__, (object,))
+        self.assertEqual(World.__bases__, (object,))
 
 
 class TestWithoutFields(unittest.TestCase):

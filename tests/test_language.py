@@ -15,10 +15,11 @@ LIBRARY = {
     "itertools": "product combinations permutations chain accumulate pairwise islice zip_longest",
     "collections": "defaultdict deque", "__future__": "annotations",
 }
-BUILTINS = set("""len range enumerate zip min max sum abs sorted reversed int str bool bytes list tuple dict set frozenset
-    isinstance ord repr any all divmod pow getattr hasattr setattr iter next map type super property staticmethod
-    classmethod Exception ValueError TypeError KeyError IndexError LookupError ZeroDivisionError ArithmeticError
-    OverflowError RuntimeError NotImplementedError AttributeError StopIteration NotImplemented object""".split())
+BUILTINS = set("""len range enumerate zip min max sum abs sorted reversed int str bool bytes list tuple
+    dict set frozenset isinstance ord repr any all divmod pow getattr hasattr setattr iter next map type
+    super property staticmethod classmethod Exception ValueError TypeError KeyError IndexError
+    LookupError ZeroDivisionError ArithmeticError OverflowError RuntimeError NotImplementedError
+    AttributeError StopIteration NotImplemented object""".split())
 STATEMENTS = (ast.FunctionDef, ast.ClassDef, ast.ImportFrom, ast.Assign, ast.Expr)
 BARRED = (ast.AsyncFunctionDef, ast.AsyncFor, ast.AsyncWith, ast.Await, ast.Global, ast.AnnAssign, ast.Div, ast.Import)
 WORDS = """typing typing_extensions enum Enum IntEnum StrEnum Flag IntFlag Generic Protocol ABC ABCMeta namedtuple
@@ -97,8 +98,52 @@ class TestModules(unittest.TestCase):
             for word in WORDS:
                 self.assertIsNone(re.search(rf"\b{word}\b", path.read_text(encoding="utf-8")), (path, word))
 
+    def test_no_two_files_import_from_each_other(self):
+        ahead = {path.name: set() for path in FILES}
+        for name, node in nodes(ast.ImportFrom):
+            if node.module.startswith("pairsayings."):
+                ahead[name].add(node.module.split(".")[1] + ".py")
+        while ahead:
+            free = [name for name in ahead if not ahead[name]]
+            self.assertTrue(free, ahead)
+            ahead = {name: ahead[name] - set(free) for name in ahead if name not in free}
+
 
 class TestNames(unittest.TestCase):
+    def test_no_variable_is_called_as_an_import_or_a_class_of_its_file(self):
+        for path, tree in TREES.items():
+            taken = [one.name for node in tree.body if isinstance(node, ast.ImportFrom) for one in node.names]
+            taken += [node.name for node in tree.body if isinstance(node, ast.ClassDef)]
+            bound = [one for node in ast.walk(tree) if isinstance(node, (ast.arg, ast.Name))
+                     for one in bound_names(node)]
+            self.assertEqual(set(taken) & set(bound), set(), path)
+
+    def test_no_method_is_called_as_an_attribute(self):
+        methods = [node.name for _, part in nodes(ast.ClassDef) for node in part.body
+                   if isinstance(node, ast.FunctionDef)]
+        stored = [node.attr for _, node in nodes(ast.Attribute) if isinstance(node.ctx, ast.Store)]
+        self.assertEqual(set(methods) & set(stored), set())
+
+    def test_each_attribute_that_is_assigned_is_one_of_self(self):
+        for name, node in nodes(ast.Attribute):
+            if isinstance(node.ctx, ast.Store):
+                self.assertTrue(isinstance(node.value, ast.Name) and node.value.id == "self", (name, node.lineno))
+
+    def test_functions_of_the_library_are_only_called(self):
+        for path, tree in TREES.items():
+            taken = [one.name for node in tree.body if isinstance(node, ast.ImportFrom) and node.module in LIBRARY
+                     for one in node.names]
+            called = [node.func for node in ast.walk(tree) if isinstance(node, ast.Call) and not node.keywords]
+            for node in ast.walk(tree):
+                if isinstance(node, ast.Name) and node.id in taken:
+                    self.assertIn(node, called, path)
+
+    def test_stars(self):
+        for name, node in nodes(ast.Subscript):
+            self.assertFalse([one for one in ast.walk(node.slice) if isinstance(one, ast.Starred)], (name, node.lineno))
+        for name, node in nodes(ast.BinOp):
+            self.assertNotIsInstance(node.op, ast.Pow, (name, node.lineno))
+
     def test_no_name_is_that_of_a_builtin(self):
         for name, node in nodes((ast.FunctionDef, ast.ClassDef, ast.arg, ast.Name)):
             for one in bound_names(node):

@@ -6,6 +6,7 @@ from unittest import mock
 
 from pairsayings.errors import NoTongue, SayingError
 from pairsayings.tongues import Tongue
+from pairsayings.worlds import World
 from tests.things import odd_objects
 
 NO_NAMES = ["x", "y", "true", "not", "and", "or", "each", "some"]
@@ -39,7 +40,7 @@ class TestMaking(unittest.TestCase):
         made = Tongue(["a", "b"], ["f"], ["f"])
         for field in fields(made):
             self.assertIs(type(field), tuple)
-        self.assertEqual(vars(made), {"marks": ("a", "b"), "ties": ("f",), "functions": ("f",)})
+        self.assertEqual(fields(made), (("a", "b"), ("f",), ("f",)))
 
     def test_by_name(self):
         self.assertEqual(fields(Tongue(functions=("f",), marks=("a",), ties=("f",))), (("a",), ("f",), ("f",)))
@@ -203,7 +204,8 @@ class TestEquality(unittest.TestCase):
         self.check(Tongue(("a", "b"), ("g", "f"), ("f",)), False)
 
     def test_unequal_to_everything_else(self):
-        others = odd_objects() + [(("a", "b"), ("f", "g"), ("f",)), [("a", "b"), ("f", "g"), ("f",)], vars(self.tongue)]
+        others = odd_objects() + [(("a", "b"), ("f", "g"), ("f",)), [("a", "b"), ("f", "g"), ("f",)], vars(self.tongue),
+                                 World(self.tongue, 1, {"a": [], "b": []}, {"f": [(0, 0)], "g": []})]
         for at, other in enumerate(others):
             with self.subTest(at=at):
                 self.check(other, False)

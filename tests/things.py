@@ -2,6 +2,7 @@
 
 from pairsayings.errors import NoSaying, NoTongue
 from pairsayings.tongues import Tongue
+from pairsayings.worlds import World
 
 TRUE = ("true",)
 
@@ -23,7 +24,9 @@ def odd_objects():
         range(3), slice(1), Ellipsis, NotImplemented, object(), int, str, tuple, len, iter([]), {}.items(),
         {"x": "y"}, {"red": "to"}, {0: "true"}, {"true": ()},
     ]
-    made = [NoSaying(), NoTongue("marks"), NoTongue, Tongue((), (), ()), Tongue(("red",), ("to",), ()), Tongue]
+    made = [NoSaying(), NoTongue("marks"), NoTongue, Tongue((), (), ()), Tongue(("red",), ("to",), ()), Tongue,
+            World(Tongue((), (), ()), 1, {}, {}), World(Tongue(("red",), ("to",), ()), 1, {"red": [0]}, {"to": []}),
+            World]
     deep = [nested(40, lambda one: [one]), nested(40, lambda one: (one,)), nested(40, lambda one: {"x": one}),
             nested(39, lambda one: ("not", one), TRUE)]
     wide = [list(range(9999)), tuple(range(9999)), ["red"] * 9999, (TRUE,) * 9999]
