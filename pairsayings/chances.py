@@ -2,10 +2,10 @@
 
 from pairsayings.census import Census
 from pairsayings.counting import need_things
-from pairsayings.errors import NoChance, NoPart
+from pairsayings.errors import NoPart
+from pairsayings.odds import chance_of, quotient, sum_worlds
 from pairsayings.sayings import free_places, need_closed, need_saying
 from pairsayings.scales import need_weights
-from pairsayings.tables import table
 from pairsayings.values import fraction
 
 
@@ -27,24 +27,7 @@ def chance(tongue, saying, given, things, weights):
     need_closed(tongue, saying)
     need_closed(tongue, given)
     need_scale(tongue, things, weights)
-    census = Census(tongue, things, weights, [saying, given])
-    asked, known = census.formulas
-    found = census.sums(known, None, None)
-    whole = sum_worlds(census, [number for _, number in found])
-    both = sum_worlds(census, [number for truths, number in found if table(asked, truths, 1) == 1])
-    return quotient(both, whole)
-
-
-def sum_worlds(census, numbers):
-    """The sum of the numbers of a census, as one integer."""
-    return census.scale.sums(sum(numbers), 1)[0]
-
-
-def quotient(top, bottom):
-    """The fraction of both; NoChance() if the bottom, the weight of what is given, is 0."""
-    if bottom == 0:
-        raise NoChance()
-    return fraction(top, bottom)
+    return chance_of(tongue, saying, [given], things, weights, [])
 
 
 def row(tongue, saying, part, things, weights):

@@ -1,10 +1,10 @@
 """Counting: how many worlds there are in which a saying holds, and their weight."""
 
-from pairsayings.census import Census
 from pairsayings.errors import NoThings
+from pairsayings.odds import weight_of
 from pairsayings.sayings import need_closed
 from pairsayings.scales import need_weights
-from pairsayings.values import fraction, is_within
+from pairsayings.values import is_within
 
 MOST_COUNTED = 60
 
@@ -26,6 +26,4 @@ def weight(tongue, saying, things, weights):
     need_closed(tongue, saying)
     need_things(things)
     need_weights(tongue, weights)
-    census = Census(tongue, things, weights, [saying])
-    total = sum([number for _, number in census.sums(census.formulas[0], None, None)])
-    return fraction(census.scale.sums(total, 1)[0], census.scale.bottoms())
+    return weight_of(tongue, saying, things, weights, [])

@@ -10,10 +10,10 @@ from pairsayings.tables import has_bit
 class Ask:
     """What a thing as x is asked for: a thing as y such that something is so."""
 
-    def __init__(self, onward, back, own, asked):
+    def __init__(self, onward, toward, own, asked):
         # The cases of two in which y meets the ask of x, and those in which x meets the ask of y.
         self.onward = onward
-        self.back = back
+        self.toward = toward
         # The kinds of which a thing meets its own ask.
         self.own = own
         # The kinds of which each thing's ask is met; of the others it is met by none.
@@ -55,7 +55,7 @@ class Kinds:
         self.ways = ways
         self.asks = asks
         self.onward = unions([ask.onward for ask in asks])
-        self.back = unions([ask.back for ask in asks])
+        self.toward = unions([ask.toward for ask in asks])
         groups = {}
         for kind, weight in weighed:
             for bars, sign in signed_bars(asks, kind):
@@ -64,17 +64,21 @@ class Kinds:
 
     def stand(self, kind, bars):
         """How a thing of the kind with the bars stands to all others: a key that is alike in a group."""
-        backs = tuple([self.frame.row(ask.back, kind) for ask in self.asks])
+        backs = tuple([self.frame.row(ask.toward, kind) for ask in self.asks])
         return self.frame.row(self.onward[bars], kind), backs
 
     def way_bits(self, one, other):
         """The ways in which a thing like the one member can stand to one like the other."""
-        barred = self.onward[one[1]] | self.back[other[1]]
+        barred = self.onward[one[1]] | self.toward[other[1]]
         return self.frame.way_bits(self.frame.full_two ^ barred, one[0], other[0])
 
     def weights(self):
         """The list of the weights of the groups."""
         return [sum([weight for _, _, weight in group]) for group in self.groups]
+
+    def weights_of(self, fitting):
+        """The same of those members alone whose kinds are among the fitting ones, as bits."""
+        return [sum([weight for kind, _, weight in group if has_bit(fitting, kind)]) for group in self.groups]
 
     def drop_empty(self):
         """Leave out the groups whose members cancel each other out."""

@@ -1,6 +1,6 @@
 """Tongues: the names of the marks and of the ties that sayings may use."""
 
-from pairsayings.errors import NoTongue
+from pairsayings.errors import HasFunctions, NoTongue
 from pairsayings.values import is_sequence
 
 LETTERS = "abcdefghijklmnopqrstuvwxyz"
@@ -74,3 +74,9 @@ class Tongue:
     def __eq__(self, other):
         return (isinstance(other, Tongue) and self._marks == other._marks
                 and self._ties == other._ties and self._functions == other._functions)
+
+
+def need_no_functions(tongue):
+    """Raise HasFunctions() if the tongue has a function."""
+    if tongue.functions:
+        raise HasFunctions()

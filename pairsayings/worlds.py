@@ -111,6 +111,12 @@ def is_so(world, saying, x, y):
     """Tell whether a saying is so of two things; each part of it is told once for each thing."""
     shelf = Shelf()
     formula = flat(saying, shelf)
+    views = full_views(world, shelf)
+    return has_bit(table(formula, views[x], all_bits(world.things)), y)
+
+
+def full_views(world, shelf):
+    """The list of the views of all things as x, also of what stands on the shelf."""
     views = world_views(world)
     add_shelf(views, shelf)
-    return has_bit(table(formula, views[x], all_bits(world.things)), y)
+    return views

@@ -15,6 +15,8 @@ LIBRARY = {
     "itertools": "product combinations permutations chain accumulate pairwise islice zip_longest",
     "collections": "defaultdict deque", "__future__": "annotations",
 }
+# Doctests leave the name _ among the builtins.
+ALL_BUILTINS = set(dir(builtins)) - {"_"}
 BUILTINS = set("""len range enumerate zip min max sum abs sorted reversed int str bool bytes list tuple
     dict set frozenset isinstance ord repr any all divmod pow getattr hasattr setattr iter next map type
     super property staticmethod classmethod Exception ValueError TypeError KeyError IndexError
@@ -148,11 +150,11 @@ class TestNames(unittest.TestCase):
         for name, node in nodes((ast.FunctionDef, ast.ClassDef, ast.arg, ast.Name)):
             for one in bound_names(node):
                 if not one.startswith("__"):
-                    self.assertFalse(hasattr(builtins, one), (name, one))
+                    self.assertNotIn(one, ALL_BUILTINS, (name, one))
 
     def test_builtins_that_are_used(self):
         for name, node in nodes(ast.Name):
-            if hasattr(builtins, node.id):
+            if node.id in ALL_BUILTINS:
                 self.assertIn(node.id, BUILTINS, name)
 
     def test_numbers_and_strings(self):
