@@ -4,8 +4,8 @@ Of each king there is one thing. The other kinds are the CROWD: as soon as a wor
 can have more that stand to all others as that one does, so that there are as many as are needed.
 """
 
-from pairsayings.tables import has_bit
 from pairsayings.realms import within
+from pairsayings.tables import has_bit
 
 
 class Band:
@@ -42,7 +42,7 @@ class Band:
         """How a thing of the crowd can stand to the kings, such that these and the crowd meet all of its demands.
 
         It is a pair of the demands that kings meet, as bits, and of a tuple of ways, one for each king; None if
-        there is none. With a wish, a pair of a king and of a demand of it that is not None, the thing meets that.
+        there is none. A wish that is not None is a pair of a king and of a demand of it that the thing meets, too.
         """
         found = {0: ()}
         for king in self.kings:
@@ -73,16 +73,11 @@ class Band:
                 return kind, role
         return None
 
-    def has_peer(self, king, demand):
-        """Tell whether another king can meet a demand of the king, if nothing else is asked of the two."""
-        return any([has_bit(met, demand) for other in self.kings if other != king
-                    for _, met, _ in self.realm.options[(king, other)]])
-
     def lives(self, kind):
         """Tell whether the demands of the kind can be met, each for itself."""
         if kind in self.crowd:
             return self.role(kind, None) is not None
-        return all([self.has_peer(kind, demand) or self.server(kind, demand) is not None
+        return all([self.peer_options(kind, demand, {}) != [] or self.server(kind, demand) is not None
                     for demand in self.demand_list(kind)])
 
     def king_demands(self):
@@ -103,15 +98,21 @@ class Band:
         king, demand = left[0]
         if has_bit(met.get(king, 0), demand):
             return self.agreed(left[1:], ways, met)
-        for other in self.kings:
-            if other != king and (king, other) not in ways and (other, king) not in ways:
-                for way, mine, theirs in self.realm.options[(king, other)]:
-                    if has_bit(mine, demand):
-                        more = {king: met.get(king, 0) | mine, other: met.get(other, 0) | theirs}
-                        found = self.agreed(left[1:], {**ways, (king, other): way}, {**met, **more})
-                        if found is not None:
-                            return found
+        for other, (way, mine, theirs) in self.peer_options(king, demand, ways):
+            more_ways = {pair: ways[pair] for pair in ways}
+            more_ways[(king, other)] = way
+            more = {king: met.get(king, 0) | mine, other: met.get(other, 0) | theirs}
+            found = self.agreed(left[1:], more_ways, {**met, **more})
+            if found is not None:
+                return found
         return None
+
+    def peer_options(self, king, demand, ways):
+        """The list of pairs of another king and of an option that meets the demand, if no way of both is told."""
+        others = [other for other in self.kings if other != king and (king, other) not in ways
+                  and (other, king) not in ways]
+        return [(other, option) for other in others for option in self.realm.options[(king, other)]
+                if has_bit(option[1], demand)]
 
 
 def settled(realm, kinds):
@@ -122,7 +123,10 @@ def settled(realm, kinds):
 
 
 def find_band(realm, kinds, crowded):
-    """A band of some of the kinds, with a crowd if it must be crowded, of which there is a world; None without one."""
+    """A band of some of the kinds of which there is a world, with a crowd if it must be crowded; None without one.
+
+    Kings that can be together may ask too much of each other all the same: then some of them have to be left out.
+    """
     band = settled(realm, kinds)
     if not band.covers() or not (band.crowd if crowded else band.kinds):
         return None

@@ -98,6 +98,9 @@ FROM = [
     # Just one marked thing that wants a court: one to lead to, to which all others lead.
     (BOTH, both(some("x", both(P_X, each("y", either(no(P_Y), SAME)))), out(ONE_WAY)), 4),
     (BOTH, both(just_one(P_X, P_Y), each("x", either(P_X, some("y", both(P_Y, R_XY)))), some("x", no(P_X))), 3),
+    # There can be two marked things at most, that want a tie one way alone to each other: so there is none.
+    (BOTH, both(each("xy", either(no(both(P_X, P_Y, R_ALIKE)), SAME)),
+                each("x", either(no(P_X), some("y", both(P_Y, ONE_WAY))))), 2),
     (TIES, both(out(both(R_XY, no(S_XY), OTHER)), out(both(S_XY, no(R_XY), OTHER))), 3),
     (TIES, both(out(ONE_WAY), out(both(S_XY, no(S_YX)))), 3),
     (TRIPLE, out(either(both(P_X, no(P_Y)), both(no(P_X), P_Y))), 3),
